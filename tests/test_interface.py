@@ -1,0 +1,117 @@
+"""Promise 1: everything stands under its name, in its file, with its parameters."""
+
+import ast
+import inspect
+import unittest
+from importlib import import_module
+from pathlib import Path
+
+FOLDER = Path(__file__).resolve().parent.parent / "withinshapes"
+
+FUNCTIONS = {
+    "fractions": {
+        "need_fraction": ["value"],
+        "fraction": ["above", "below"],
+        "plus": ["one", "other"],
+        "minus": ["one", "other"],
+        "times": ["one", "other"],
+        "over": ["one", "other"],
+        "less": ["one", "other"],
+    },
+    "points": {
+        "need_point": ["point"],
+        "point_plus": ["one", "other"],
+        "point_times": ["point", "factor"],
+        "squared": ["one", "other"],
+        "mean_of": ["points"],
+        "need_pays": ["pays"],
+        "need_dice": ["pays", "dice"],
+        "need_odds": ["pays", "odds"],
+        "pay_of": ["pays", "dice", "answer"],
+        "pay_by": ["pays", "dice", "odds"],
+        "greatest_gap": ["pays"],
+    },
+}
+
+PAYS = (((0, 1), (1, 0)), ((1, 0), (0, 1)))
+HALVES = ((1, 2), (1, 2))
+POINT = ((1, 2), (0, 1))
+
+CALLS = (
+    ("fractions", "need_fraction", {"value": (1, 2)}, (1, 2)),
+    ("fractions", "fraction", {"above": 2, "below": 4}, (1, 2)),
+    ("fractions", "plus", {"one": (1, 2), "other": (1, 3)}, (5, 6)),
+    ("fractions", "minus", {"one": (1, 2), "other": (1, 3)}, (1, 6)),
+    ("fractions", "times", {"one": (1, 2), "other": (1, 3)}, (1, 6)),
+    ("fractions", "over", {"one": (1, 2), "other": (1, 3)}, (3, 2)),
+    ("fractions", "less", {"one": (1, 2), "other": (1, 3)}, False),
+    ("points", "need_point", {"point": POINT}, POINT),
+    ("points", "point_plus", {"one": POINT, "other": POINT}, ((1, 1), (0, 1))),
+    ("points", "point_times", {"point": POINT, "factor": (1, 2)}, ((1, 4), (0, 1))),
+    ("points", "squared", {"one": POINT, "other": ((0, 1), (0, 1))}, (1, 4)),
+    ("points", "mean_of", {"points": (POINT, ((0, 1), (1, 1)))}, ((1, 4), (1, 2))),
+    ("points", "need_pays", {"pays": PAYS}, PAYS),
+    ("points", "need_dice", {"pays": PAYS, "dice": HALVES}, HALVES),
+    ("points", "need_odds", {"pays": PAYS, "odds": HALVES}, HALVES),
+    ("points", "pay_of", {"pays": PAYS, "dice": HALVES, "answer": 1}, HALVES),
+    ("points", "pay_by", {"pays": PAYS, "dice": HALVES, "odds": HALVES}, HALVES),
+    ("points", "greatest_gap", {"pays": PAYS}, 2),
+)
+
+
+def is_plain(value):
+    """Whether a result is made of tuples, integers, texts, True, False and None alone."""
+    if type(value) is tuple:
+        return all(is_plain(thing) for thing in value)
+    return value is None or type(value) in (int, str, bool)
+
+
+def found(module, name):
+    return getattr(import_module("withinshapes." + module), name)
+
+
+class InterfaceTest(unittest.TestCase):
+    def test_each_function_is_defined_in_its_file(self):
+        for module, functions in FUNCTIONS.items():
+            tree = ast.parse((FOLDER / (module + ".py")).read_text())
+            defined = {row.name for row in tree.body if isinstance(row, ast.FunctionDef)}
+            with self.subTest(module):
+                self.assertLessEqual(set(functions), defined)
+
+    def test_each_function_has_its_parameters(self):
+        for module, functions in FUNCTIONS.items():
+            for name, parameters in functions.items():
+                told = inspect.signature(found(module, name)).parameters
+                with self.subTest(name):
+                    self.assertEqual(list(told), parameters)
+                    for parameter in told.values():
+                        self.assertIs(parameter.kind, inspect.Parameter.POSITIONAL_OR_KEYWORD)
+                        self.assertIs(parameter.default, inspect.Parameter.empty)
+
+    def test_each_function_is_called_here(self):
+        told = {(module, name) for module, functions in FUNCTIONS.items() for name in functions}
+        self.assertEqual({call[:2] for call in CALLS}, told)
+
+    def test_by_position_and_by_name_is_the_same(self):
+        for module, name, named, answer in CALLS:
+            function = found(module, name)
+            with self.subTest(name):
+                self.assertEqual(function(*named.values()), answer)
+                self.assertEqual(function(**named), answer)
+
+    def test_results_are_plain_values(self):
+        for module, name, named, answer in CALLS:
+            result = found(module, name)(**named)
+            with self.subTest(name):
+                self.assertTrue(is_plain(result))
+                self.assertIs(type(result), type(answer))
+
+    def test_what_is_checked_is_returned_itself(self):
+        for module, name, named, _ in CALLS:
+            if name.startswith("need_"):
+                with self.subTest(name):
+                    self.assertIs(found(module, name)(**named), list(named.values())[-1])
+
+
+if __name__ == "__main__":
+    unittest.main()

@@ -1,0 +1,1 @@
+"""Withinshapes: mean pays led into a shape, whatever is answered."""
