@@ -21,6 +21,8 @@ UNEVEN = (((4, -1), (0, 0), (-8, 3)), ((1, 1), (9, -9), (2, 50)))
 ALL = (EXAMPLE, SINGLE, WIDE, TALL, FULL, UNEVEN)
 
 LONG = 1234567890123456789012345678901234567890
+# What is no tuple with things in it: neither pays nor an act.
+NO_ROWS = [value for value in OTHER_KINDS if type(value) is not tuple or value == ()]
 NO_PAIRS = OTHER_KINDS + (
     1, (1, 2, 3), [1, 2], (101, 0), (-101, 0), (0, 101), (0, -101), (10 ** 40, 0), (True, 0), (0, False),
     (1.0, 0), (0, "1"), (None, 0), (0, (1, 1)), ((1, 1), (1, 1)), (Strange(), 0), (0, Strange()),
@@ -69,14 +71,12 @@ class NeedPaysTest(RefusalCase):
                 self.refused_place((0, 0), BadPays, need_pays, pays)
 
     def test_wrong_as_a_whole(self):
-        wrong = [value for value in OTHER_KINDS if type(value) is not tuple or value == ()]
-        for value in wrong + [1, list(EXAMPLE), (((0, 0),),) * 5, (None,) * 5]:
+        for value in NO_ROWS + [1, list(EXAMPLE), (((0, 0),),) * 5, (None,) * 5]:
             self.refused_place((), BadPays, need_pays, value)
 
     def test_wrong_in_an_act(self):
         right = ((0, 0), (1, 1))
-        wrong = [value for value in OTHER_KINDS if type(value) is not tuple or value == ()]
-        for value in wrong + [1, list(right), ((0, 0),) * 5, (None,) * 5]:
+        for value in NO_ROWS + [1, list(right), ((0, 0),) * 5, (None,) * 5]:
             self.refused_place((0,), BadPays, need_pays, (value,))
             self.refused_place((1,), BadPays, need_pays, (right, value, right))
             self.refused_place((3,), BadPays, need_pays, (right, right, right, value))
@@ -114,6 +114,33 @@ class NeedPaysTest(RefusalCase):
                 self.refused_place((first // 2, first % 2), BadPays, need_pays, pays)
             else:
                 self.assertIs(need_pays(pays), pays)
+
+
+class EveryPaysTest(RefusalCase):
+    """Each parameter that is PAYS is checked as need_pays does it."""
+
+    CALLS = (
+        (need_dice, (HALVES,)), (need_odds, (HALVES,)), (pay_of, (HALVES, 0)), (pay_by, (HALVES, HALVES)),
+        (greatest_gap, ()),
+    )
+
+    def each_place(self, place, pays):
+        for call, others in self.CALLS:
+            self.refused_place(place, BadPays, call, pays, *others)
+            # Whatever stands behind the pays is looked at later.
+            self.refused_place(place, BadPays, call, pays, *[None for _ in others])
+
+    def test_wrong_as_a_whole(self):
+        for value in NO_ROWS + [1, list(EXAMPLE), EXAMPLE[:1] * 5]:
+            self.each_place((), value)
+
+    def test_wrong_in_an_act(self):
+        for value in NO_ROWS + [1, list(EXAMPLE[1]), EXAMPLE[1][:1], EXAMPLE[1] * 2, EXAMPLE[1][:1] * 5]:
+            self.each_place((1,), (EXAMPLE[0], value))
+
+    def test_wrong_in_a_pair(self):
+        for value in NO_PAIRS:
+            self.each_place((1, 0), (EXAMPLE[0], (value, None)))
 
 
 class SharesTest(RefusalCase):
