@@ -3,7 +3,7 @@
 import unittest
 from fractions import Fraction
 
-from tests.refusals import NO_FRACTIONS, OTHER_KINDS, RefusalCase
+from tests.common import NO_FRACTIONS, OTHER_KINDS, RefusalCase, pair
 from withinshapes.errors import BadParameter
 from withinshapes.fractions import fraction, less, minus, need_fraction, over, plus, times
 
@@ -18,11 +18,6 @@ SOME = (
     (LONG, 1), (-LONG, 1), (1, LONG), (-1, LONG), (LONG, LONG + 1), (-LONG, LONG + 1), (OTHER_LONG, PRIME),
     (PRIME ** 40, PRIME ** 39 + 1), (1, PRIME ** 40),
 )
-
-
-def pair(value):
-    """The pair of one of Python's own fractions."""
-    return (value.numerator, value.denominator)
 
 
 class NeedFractionTest(RefusalCase):

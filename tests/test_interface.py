@@ -31,11 +31,49 @@ FUNCTIONS = {
         "pay_by": ["pays", "dice", "odds"],
         "greatest_gap": ["pays"],
     },
+    "shapes": {
+        "need_shape": ["shape"],
+        "lets": ["shape", "point"],
+        "tight": ["shape", "point"],
+        "no_point": ["lines"],
+        "is_no_point": ["lines", "value"],
+        "corners": ["shape"],
+        "is_bounded": ["shape"],
+    },
+    "ends": {
+        "greatest_along": ["shape", "a", "b"],
+        "nearest": ["shape", "point"],
+        "squared_from": ["shape", "point"],
+        "idle_lines": ["shape"],
+        "same_points": ["shape", "other"],
+        "widened": ["shape", "more"],
+    },
+    "games": {
+        "need_game": ["game"],
+        "sums_by": ["game", "dice"],
+        "sums_of": ["game", "odds"],
+        "worth": ["game"],
+        "is_worth": ["game", "value"],
+        "met": ["game"],
+        "is_met": ["game", "value"],
+        "turned_game": ["game"],
+        "bare_game": ["game"],
+    },
+    "squares": {
+        "kernels": ["acts", "answers"],
+        "kernel_dice": ["game", "kernel"],
+        "first_kernel": ["game"],
+    },
 }
 
 PAYS = (((0, 1), (1, 0)), ((1, 0), (0, 1)))
 HALVES = ((1, 2), (1, 2))
 POINT = ((1, 2), (0, 1))
+SHAPE = ((2, 0, 1), (0, 2, 1))
+AT_CORNER = ((1, 2), (1, 2))
+APART = ((1, 0, 0), (-1, 0, -1))
+GAME = (((1, 1), (-1, 1)), ((-1, 1), (1, 1)))
+KERNEL = ((0, 1), (0, 1))
 
 CALLS = (
     ("fractions", "need_fraction", {"value": (1, 2)}, (1, 2)),
@@ -56,6 +94,49 @@ CALLS = (
     ("points", "pay_of", {"pays": PAYS, "dice": HALVES, "answer": 1}, HALVES),
     ("points", "pay_by", {"pays": PAYS, "dice": HALVES, "odds": HALVES}, HALVES),
     ("points", "greatest_gap", {"pays": PAYS}, 2),
+    ("shapes", "need_shape", {"shape": SHAPE}, SHAPE),
+    ("shapes", "lets", {"shape": SHAPE, "point": POINT}, True),
+    ("shapes", "tight", {"shape": SHAPE, "point": POINT}, (0,)),
+    ("shapes", "no_point", {"lines": APART}, ((0, 1), (1, 1))),
+    ("shapes", "is_no_point", {"lines": APART, "value": ((0, 1), (1, 1))}, True),
+    ("shapes", "corners", {"shape": SHAPE}, (AT_CORNER,)),
+    ("shapes", "is_bounded", {"shape": SHAPE}, False),
+    ("ends", "greatest_along", {"shape": SHAPE, "a": 2, "b": 1}, (3, 2)),
+    ("ends", "nearest", {"shape": SHAPE, "point": ((1, 1), (0, 1))}, POINT),
+    ("ends", "squared_from", {"shape": SHAPE, "point": ((1, 1), (0, 1))}, (1, 4)),
+    ("ends", "idle_lines", {"shape": SHAPE + ((1, 1, 1),)}, (2,)),
+    ("ends", "same_points", {"shape": SHAPE, "other": SHAPE[:1]}, False),
+    ("ends", "widened", {"shape": SHAPE, "more": (1, 2)}, ((4, 0, 3), (0, 4, 3))),
+    ("games", "need_game", {"game": GAME}, GAME),
+    ("games", "sums_by", {"game": GAME, "dice": ((1, 1), (0, 1))}, ((1, 1), (-1, 1))),
+    ("games", "sums_of", {"game": GAME, "odds": ((0, 1), (1, 1))}, ((-1, 1), (1, 1))),
+    ("games", "worth", {"game": GAME}, ((0, 1), HALVES, HALVES)),
+    ("games", "is_worth", {"game": GAME, "value": ((0, 1), HALVES, HALVES)}, True),
+    ("games", "met", {"game": GAME}, ("dice", HALVES)),
+    ("games", "is_met", {"game": GAME, "value": ("dice", HALVES)}, True),
+    ("games", "turned_game", {"game": (((1, 1), (2, 3)),)}, (((-1, 1),), ((-2, 3),))),
+    ("games", "bare_game", {"game": (((1, 1), (2, 3)),)}, ((0,), (0,), (((1, 1),),))),
+    ("squares", "kernels", {"acts": 1, "answers": 2}, (((0,), (0,)), ((0,), (1,)))),
+    ("squares", "kernel_dice", {"game": GAME, "kernel": KERNEL}, HALVES),
+    ("squares", "first_kernel", {"game": GAME}, KERNEL),
+)
+
+# Calls with other kinds of results: nothing, the other word, the other truth.
+MORE_CALLS = (
+    ("shapes", "lets", {"shape": SHAPE, "point": ((1, 1), (0, 1))}, False),
+    ("shapes", "tight", {"shape": SHAPE, "point": ((1, 1), (0, 1))}, ()),
+    ("shapes", "is_no_point", {"lines": APART, "value": None}, False),
+    ("shapes", "corners", {"shape": SHAPE[:1]}, ()),
+    ("shapes", "is_bounded", {"shape": ((1, 0, 0), (0, 1, 0), (-1, -1, 0))}, True),
+    ("ends", "greatest_along", {"shape": SHAPE, "a": 1, "b": -1}, None),
+    ("ends", "greatest_along", {"shape": SHAPE, "a": 0, "b": 0}, (0, 1)),
+    ("ends", "idle_lines", {"shape": SHAPE}, ()),
+    ("ends", "same_points", {"shape": SHAPE, "other": SHAPE[::-1]}, True),
+    ("games", "is_worth", {"game": GAME, "value": None}, False),
+    ("games", "met", {"game": (((2, 1),),)}, ("odds", ((1, 1),))),
+    ("games", "is_met", {"game": GAME, "value": None}, False),
+    ("squares", "kernel_dice", {"game": (((1, 1), (2, 1)), ((0, 1), (2, 1))), "kernel": KERNEL}, None),
+    ("squares", "first_kernel", {"game": (((2, 1),),)}, None),
 )
 
 
@@ -93,14 +174,14 @@ class InterfaceTest(unittest.TestCase):
         self.assertEqual({call[:2] for call in CALLS}, told)
 
     def test_by_position_and_by_name_is_the_same(self):
-        for module, name, named, answer in CALLS:
+        for module, name, named, answer in CALLS + MORE_CALLS:
             function = found(module, name)
             with self.subTest(name):
                 self.assertEqual(function(*named.values()), answer)
                 self.assertEqual(function(**named), answer)
 
     def test_results_are_plain_values(self):
-        for module, name, named, answer in CALLS:
+        for module, name, named, answer in CALLS + MORE_CALLS:
             result = found(module, name)(**named)
             with self.subTest(name):
                 self.assertTrue(is_plain(result))

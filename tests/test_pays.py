@@ -4,7 +4,7 @@ import unittest
 from fractions import Fraction
 from itertools import product
 
-from tests.refusals import NO_HALVES, OTHER_KINDS, RefusalCase, Strange
+from tests.common import NO_HALVES, NO_ROWS, OTHER_KINDS, RefusalCase, Strange, pair
 from withinshapes.errors import BadDice, BadOdds, BadParameter, BadPays
 from withinshapes.fractions import less, minus, plus, times
 from withinshapes.points import (
@@ -21,8 +21,6 @@ UNEVEN = (((4, -1), (0, 0), (-8, 3)), ((1, 1), (9, -9), (2, 50)))
 ALL = (EXAMPLE, SINGLE, WIDE, TALL, FULL, UNEVEN)
 
 LONG = 1234567890123456789012345678901234567890
-# What is no tuple with things in it: neither pays nor an act.
-NO_ROWS = [value for value in OTHER_KINDS if type(value) is not tuple or value == ()]
 NO_PAIRS = OTHER_KINDS + (
     1, (1, 2, 3), [1, 2], (101, 0), (-101, 0), (0, 101), (0, -101), (10 ** 40, 0), (True, 0), (0, False),
     (1.0, 0), (0, "1"), (None, 0), (0, (1, 1)), ((1, 1), (1, 1)), (Strange(), 0), (0, Strange()),
@@ -39,11 +37,6 @@ def shares_for(many):
     rising = tuple(Fraction(i + 1, triangle) for i in range(many))
     long = ((1, LONG), (LONG - 1, LONG)) + ((0, 1),) * (many - 2)
     return alone + alike + [tuple((part.numerator, part.denominator) for part in rising), long]
-
-
-def pair(value):
-    """The pair of one of Python's own fractions."""
-    return (value.numerator, value.denominator)
 
 
 def own_pay(pays, dice, answer):

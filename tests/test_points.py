@@ -3,7 +3,7 @@
 import unittest
 from fractions import Fraction
 
-from tests.refusals import NO_FRACTIONS, NO_POINTS, OTHER_KINDS, RefusalCase
+from tests.common import NO_FRACTIONS, NO_POINTS, OTHER_KINDS, RefusalCase, own, pair
 from withinshapes.errors import BadParameter, BadPoint
 from withinshapes.points import mean_of, need_point, point_plus, point_times, squared
 
@@ -13,16 +13,6 @@ SOME = (
     ((0, 1), (0, 1)), ((1, 1), (0, 1)), ((0, 1), (-1, 1)), ((1, 2), (1, 3)), ((-1, 2), (5, 3)), ((-7, 4), (-9, 5)),
     ((100, 1), (-100, 1)), ((LONG, 1), (1, LONG)), ((-LONG, LONG + 1), (LONG, 7)),
 )
-
-
-def own(point):
-    """The point in Python's own fractions."""
-    return [Fraction(*thing) for thing in point]
-
-
-def pair(value):
-    """The pair of one of Python's own fractions."""
-    return (value.numerator, value.denominator)
 
 
 class NeedPointTest(RefusalCase):

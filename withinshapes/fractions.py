@@ -80,6 +80,15 @@ def less(one, other):
     return one[0] * other[1] < other[0] * one[1]
 
 
+def least_of(values):
+    """The least one of some FRACTIONs, of at least one."""
+    found = values[0]
+    for value in values:
+        if less(value, found):
+            found = value
+    return found
+
+
 def are_shares(value, many):
     """Whether a value is a tuple of so many FRACTIONs from nought on, together (1, 1)."""
     if not is_row(value, many, many):

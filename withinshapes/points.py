@@ -2,11 +2,9 @@
 
 from withinshapes.errors import BadDice, BadOdds, BadParameter, BadPays, BadPoint
 from withinshapes.fractions import are_shares, is_fraction, minus, need_fraction, plus, times, weighed
-from withinshapes.kinds import is_int_within, is_pair, is_row, is_tuple
+from withinshapes.kinds import is_int_within, is_pair, is_tuple, wrong_place
 
 ORIGIN = ((0, 1), (0, 1))
-MOST_ACTS = 4
-MOST_ANSWERS = 4
 MOST_PAID = 100
 
 
@@ -66,14 +64,9 @@ def is_pay(value):
 
 def need_pays(pays):
     """The PAYS themselves."""
-    if not is_row(pays, 1, MOST_ACTS):
-        raise BadPays(())
-    for place, act in enumerate(pays):
-        if not is_row(act, 1, MOST_ANSWERS) or len(act) != len(pays[0]):
-            raise BadPays((place,))
-        for answer, pay in enumerate(act):
-            if not is_pay(pay):
-                raise BadPays((place, answer))
+    place = wrong_place(pays, is_pay)
+    if place is not None:
+        raise BadPays(place)
     return pays
 
 
