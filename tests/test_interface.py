@@ -64,7 +64,39 @@ FUNCTIONS = {
         "kernel_dice": ["game", "kernel"],
         "first_kernel": ["game"],
     },
+    "polys": {
+        "need_poly": ["poly"],
+        "poly_plus": ["one", "other"],
+        "poly_minus": ["one", "other"],
+        "poly_times": ["one", "other"],
+        "poly_at": ["poly", "t"],
+        "slope_of": ["poly"],
+        "parted_by": ["one", "other"],
+        "common_part": ["one", "other"],
+        "plain_part": ["poly"],
+        "sturm_row": ["poly"],
+        "changes_at": ["poly", "t"],
+        "roots_between": ["poly", "low", "high"],
+    },
+    "roots": {
+        "need_root": ["root"],
+        "roots_of": ["poly"],
+        "halved": ["root"],
+        "compared": ["one", "other"],
+        "sign_at": ["poly", "root"],
+        "between": ["one", "other"],
+    },
+    "turns": {
+        "turns": ["shape"],
+        "turning": ["pays", "shape", "turn"],
+        "game_at": ["pays", "shape", "turn", "t"],
+        "kernel_polys": ["pays", "shape", "turn", "kernel"],
+        "kernel_meets": ["pays", "shape", "turn", "kernel", "t"],
+    },
 }
+
+# Files that the interface names without anything for users.
+OTHER_FILES = ("errors", "search")
 
 PAYS = (((0, 1), (1, 0)), ((1, 0), (0, 1)))
 HALVES = ((1, 2), (1, 2))
@@ -74,6 +106,12 @@ AT_CORNER = ((1, 2), (1, 2))
 APART = ((1, 0, 0), (-1, 0, -1))
 GAME = (((1, 1), (-1, 1)), ((-1, 1), (1, 1)))
 KERNEL = ((0, 1), (0, 1))
+POLY = (-1, 0, 2)
+ROOT = (POLY, (0, 1), (1, 1))
+UPPER = (POLY, (1, 2), (1, 1))
+END = ((), (1, 1), (1, 1))
+TURN = (0, 1)
+TURNING = {"pays": PAYS, "shape": SHAPE, "turn": TURN}
 
 CALLS = (
     ("fractions", "need_fraction", {"value": (1, 2)}, (1, 2)),
@@ -119,6 +157,29 @@ CALLS = (
     ("squares", "kernels", {"acts": 1, "answers": 2}, (((0,), (0,)), ((0,), (1,)))),
     ("squares", "kernel_dice", {"game": GAME, "kernel": KERNEL}, HALVES),
     ("squares", "first_kernel", {"game": GAME}, KERNEL),
+    ("polys", "need_poly", {"poly": POLY}, POLY),
+    ("polys", "poly_plus", {"one": POLY, "other": (1, 0, -2)}, ()),
+    ("polys", "poly_minus", {"one": POLY, "other": (1, 0, 2)}, (-2,)),
+    ("polys", "poly_times", {"one": POLY, "other": (0, 1)}, (0, -1, 0, 2)),
+    ("polys", "poly_at", {"poly": POLY, "t": (1, 2)}, (-1, 2)),
+    ("polys", "slope_of", {"poly": POLY}, (0, 4)),
+    ("polys", "parted_by", {"one": POLY, "other": (1, 3)}, ((-2, 6), (-7,), 9)),
+    ("polys", "common_part", {"one": POLY, "other": (0, 2, 0, -4)}, POLY),
+    ("polys", "plain_part", {"poly": (-1, 0, 4, 0, -4)}, (1, 0, -2)),
+    ("polys", "sturm_row", {"poly": POLY}, (POLY, (0, 1), (1,))),
+    ("polys", "changes_at", {"poly": POLY, "t": (0, 1)}, 1),
+    ("polys", "roots_between", {"poly": POLY, "low": (0, 1), "high": (1, 1)}, 1),
+    ("roots", "need_root", {"root": ROOT}, ROOT),
+    ("roots", "roots_of", {"poly": POLY}, (ROOT,)),
+    ("roots", "halved", {"root": ROOT}, UPPER),
+    ("roots", "compared", {"one": ROOT, "other": UPPER}, 0),
+    ("roots", "sign_at", {"poly": (-3, 4), "root": ROOT}, -1),
+    ("roots", "between", {"one": ROOT, "other": END}, (3, 4)),
+    ("turns", "turns", {"shape": SHAPE}, ((0, 0), TURN, (1, 1))),
+    ("turns", "turning", TURNING, (((-1, 2), (1, -2)), ((1, -2), (-1, 2)))),
+    ("turns", "game_at", {**TURNING, "t": (1, 4)}, (((-1, 2), (1, 2)), ((1, 2), (-1, 2)))),
+    ("turns", "kernel_polys", {**TURNING, "kernel": KERNEL}, (((-2, 4), (-2, 4)), ((), ()))),
+    ("turns", "kernel_meets", {**TURNING, "kernel": KERNEL, "t": (1, 4)}, True),
 )
 
 # Calls with other kinds of results: nothing, the other word, the other truth.
@@ -137,6 +198,11 @@ MORE_CALLS = (
     ("games", "is_met", {"game": GAME, "value": None}, False),
     ("squares", "kernel_dice", {"game": (((1, 1), (2, 1)), ((0, 1), (2, 1))), "kernel": KERNEL}, None),
     ("squares", "first_kernel", {"game": (((2, 1),),)}, None),
+    ("polys", "slope_of", {"poly": (5,)}, ()),
+    ("polys", "sturm_row", {"poly": (-5,)}, ((-1,),)),
+    ("polys", "roots_between", {"poly": POLY, "low": (1, 1), "high": (1, 1)}, 0),
+    ("roots", "roots_of", {"poly": (5,)}, ()),
+    ("turns", "kernel_meets", {**TURNING, "kernel": KERNEL, "t": (1, 2)}, False),
 )
 
 
@@ -168,6 +234,12 @@ class InterfaceTest(unittest.TestCase):
                     for parameter in told.values():
                         self.assertIs(parameter.kind, inspect.Parameter.POSITIONAL_OR_KEYWORD)
                         self.assertIs(parameter.default, inspect.Parameter.empty)
+
+    def test_each_file_of_the_interface_is_there(self):
+        for module in tuple(FUNCTIONS) + OTHER_FILES:
+            with self.subTest(module):
+                self.assertTrue((FOLDER / (module + ".py")).is_file())
+                import_module("withinshapes." + module)
 
     def test_each_function_is_called_here(self):
         told = {(module, name) for module, functions in FUNCTIONS.items() for name in functions}

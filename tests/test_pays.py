@@ -4,27 +4,18 @@ import unittest
 from fractions import Fraction
 from itertools import product
 
-from tests.common import NO_HALVES, NO_ROWS, OTHER_KINDS, RefusalCase, Strange, pair
+from tests.common import (
+    EXAMPLE_PAYS, FULL_PAYS, NAMED_PAYS, NO_HALVES, NO_PAIRS, NO_ROWS, OTHER_KINDS, SINGLE_PAY, TALL_PAYS, UNEVEN_PAYS,
+    RefusalCase, pair,
+)
 from withinshapes.errors import BadDice, BadOdds, BadParameter, BadPays
 from withinshapes.fractions import less, minus, plus, times
 from withinshapes.points import (
     greatest_gap, mean_of, need_dice, need_odds, need_pays, pay_by, pay_of, point_plus, point_times, squared,
 )
 
-EXAMPLE = (((0, 1), (1, 0)), ((1, 0), (0, 1)))
 HALVES = ((1, 2), (1, 2))
-SINGLE = (((3, -4),),)
-WIDE = (((0, 1), (2, -3), (100, -100)),)
-TALL = (((-5, 7),), ((11, 0),), ((0, 0),), ((-100, 100),))
-FULL = tuple(tuple((17 * i - 9 * j, 5 * j * j - 31 * i) for j in range(4)) for i in range(4))
-UNEVEN = (((4, -1), (0, 0), (-8, 3)), ((1, 1), (9, -9), (2, 50)))
-ALL = (EXAMPLE, SINGLE, WIDE, TALL, FULL, UNEVEN)
-
 LONG = 1234567890123456789012345678901234567890
-NO_PAIRS = OTHER_KINDS + (
-    1, (1, 2, 3), [1, 2], (101, 0), (-101, 0), (0, 101), (0, -101), (10 ** 40, 0), (True, 0), (0, False),
-    (1.0, 0), (0, "1"), (None, 0), (0, (1, 1)), ((1, 1), (1, 1)), (Strange(), 0), (0, Strange()),
-)
 
 
 def shares_for(many):
@@ -47,7 +38,7 @@ def own_pay(pays, dice, answer):
 
 class NeedPaysTest(RefusalCase):
     def test_pays_are_returned(self):
-        for pays in ALL:
+        for pays in NAMED_PAYS:
             self.assertIs(need_pays(pays), pays)
 
     def test_one_and_four_of_each(self):
@@ -64,7 +55,7 @@ class NeedPaysTest(RefusalCase):
                 self.refused_place((0, 0), BadPays, need_pays, pays)
 
     def test_wrong_as_a_whole(self):
-        for value in NO_ROWS + [1, list(EXAMPLE), (((0, 0),),) * 5, (None,) * 5]:
+        for value in NO_ROWS + [1, list(EXAMPLE_PAYS), (((0, 0),),) * 5, (None,) * 5]:
             self.refused_place((), BadPays, need_pays, value)
 
     def test_wrong_in_an_act(self):
@@ -124,21 +115,22 @@ class EveryPaysTest(RefusalCase):
             self.refused_place(place, BadPays, call, pays, *[None for _ in others])
 
     def test_wrong_as_a_whole(self):
-        for value in NO_ROWS + [1, list(EXAMPLE), EXAMPLE[:1] * 5]:
+        for value in NO_ROWS + [1, list(EXAMPLE_PAYS), EXAMPLE_PAYS[:1] * 5]:
             self.each_place((), value)
 
     def test_wrong_in_an_act(self):
-        for value in NO_ROWS + [1, list(EXAMPLE[1]), EXAMPLE[1][:1], EXAMPLE[1] * 2, EXAMPLE[1][:1] * 5]:
-            self.each_place((1,), (EXAMPLE[0], value))
+        first, last = EXAMPLE_PAYS
+        for value in NO_ROWS + [1, list(last), last[:1], last * 2, last[:1] * 5]:
+            self.each_place((1,), (first, value))
 
     def test_wrong_in_a_pair(self):
         for value in NO_PAIRS:
-            self.each_place((1, 0), (EXAMPLE[0], (value, None)))
+            self.each_place((1, 0), (EXAMPLE_PAYS[0], (value, None)))
 
 
 class SharesTest(RefusalCase):
     def test_dice_and_odds_are_returned(self):
-        for pays in ALL:
+        for pays in NAMED_PAYS:
             for dice in shares_for(len(pays)):
                 self.assertIs(need_dice(pays, dice), dice)
             for odds in shares_for(len(pays[0])):
@@ -146,19 +138,19 @@ class SharesTest(RefusalCase):
 
     def test_a_part_of_nought(self):
         for shares in (((0, 1), (1, 1)), ((1, 1), (0, 1))):
-            self.assertIs(need_dice(EXAMPLE, shares), shares)
-            self.assertIs(need_odds(EXAMPLE, shares), shares)
+            self.assertIs(need_dice(EXAMPLE_PAYS, shares), shares)
+            self.assertIs(need_odds(EXAMPLE_PAYS, shares), shares)
 
     def test_what_is_none_is_refused(self):
-        self.each_refused(BadDice, NO_HALVES, need_dice, [EXAMPLE, None], 1)
-        self.each_refused(BadOdds, NO_HALVES, need_odds, [EXAMPLE, None], 1)
+        self.each_refused(BadDice, NO_HALVES, need_dice, [EXAMPLE_PAYS, None], 1)
+        self.each_refused(BadOdds, NO_HALVES, need_odds, [EXAMPLE_PAYS, None], 1)
 
     def test_dice_are_for_acts_and_odds_for_answers(self):
         thirds = ((1, 3),) * 3
-        self.assertIs(need_dice(UNEVEN, HALVES), HALVES)
-        self.assertIs(need_odds(UNEVEN, thirds), thirds)
-        self.refused_value(BadDice, thirds, need_dice, UNEVEN, thirds)
-        self.refused_value(BadOdds, HALVES, need_odds, UNEVEN, HALVES)
+        self.assertIs(need_dice(UNEVEN_PAYS, HALVES), HALVES)
+        self.assertIs(need_odds(UNEVEN_PAYS, thirds), thirds)
+        self.refused_value(BadDice, thirds, need_dice, UNEVEN_PAYS, thirds)
+        self.refused_value(BadOdds, HALVES, need_odds, UNEVEN_PAYS, HALVES)
 
     def test_pays_are_checked_first(self):
         for call in (need_dice, need_odds):
@@ -170,40 +162,40 @@ class SharesTest(RefusalCase):
 class PayOfTest(RefusalCase):
     def test_the_example(self):
         dice = ((1, 3), (2, 3))
-        self.assertEqual(pay_of(EXAMPLE, dice, 0), ((2, 3), (1, 3)))
-        self.assertEqual(pay_of(EXAMPLE, dice, 1), ((1, 3), (2, 3)))
+        self.assertEqual(pay_of(EXAMPLE_PAYS, dice, 0), ((2, 3), (1, 3)))
+        self.assertEqual(pay_of(EXAMPLE_PAYS, dice, 1), ((1, 3), (2, 3)))
 
     def test_an_act_alone_pays_its_pair(self):
-        for pays in ALL:
+        for pays in NAMED_PAYS:
             for i, act in enumerate(pays):
                 dice = tuple((int(i == k), 1) for k in range(len(pays)))
                 for j, (x, y) in enumerate(act):
                     self.assertEqual(pay_of(pays, dice, j), ((x, 1), (y, 1)))
 
     def test_the_sum_over_acts(self):
-        for pays in ALL:
+        for pays in NAMED_PAYS:
             for dice in shares_for(len(pays)):
                 for answer in range(len(pays[0])):
                     x, y = own_pay(pays, dice, answer)
                     self.assertEqual(pay_of(pays, dice, answer), (pair(x), pair(y)))
 
     def test_answers_that_are_no_number_of_one(self):
-        self.each_refused(BadParameter, OTHER_KINDS + (-1, 2, 100, LONG, -LONG, (0, 1)), pay_of, [EXAMPLE, HALVES, 0], 2)
-        self.each_refused(BadParameter, (1, -1), pay_of, [SINGLE, ((1, 1),), 0], 2)
-        self.each_refused(BadParameter, (1, 3), pay_of, [TALL, ((1, 4),) * 4, 0], 2)
-        self.each_refused(BadParameter, (3,), pay_of, [UNEVEN, HALVES, 0], 2)
+        self.each_refused(BadParameter, OTHER_KINDS + (-1, 2, 100, LONG, -LONG, (0, 1)), pay_of, [EXAMPLE_PAYS, HALVES, 0], 2)
+        self.each_refused(BadParameter, (1, -1), pay_of, [SINGLE_PAY, ((1, 1),), 0], 2)
+        self.each_refused(BadParameter, (1, 3), pay_of, [TALL_PAYS, ((1, 4),) * 4, 0], 2)
+        self.each_refused(BadParameter, (3,), pay_of, [UNEVEN_PAYS, HALVES, 0], 2)
 
     def test_parameters_in_their_order(self):
         self.refused_place((), BadPays, pay_of, None, None, None)
-        self.refused_value(BadDice, None, pay_of, EXAMPLE, None, None)
-        self.refused_value(BadParameter, True, pay_of, EXAMPLE, HALVES, True)
+        self.refused_value(BadDice, None, pay_of, EXAMPLE_PAYS, None, None)
+        self.refused_value(BadParameter, True, pay_of, EXAMPLE_PAYS, HALVES, True)
 
     def test_wrong_pays_and_dice(self):
         self.refused_place((1, 1), BadPays, pay_of, (((0, 0), (0, 0)), ((0, 0), None)), HALVES, 0)
-        self.each_refused(BadDice, NO_HALVES, pay_of, [EXAMPLE, None, 0], 1)
+        self.each_refused(BadDice, NO_HALVES, pay_of, [EXAMPLE_PAYS, None, 0], 1)
 
     def test_within_each_line_that_lets_all_pays_of_the_answer(self):
-        for pays in ALL:
+        for pays in NAMED_PAYS:
             for dice in shares_for(len(pays)):
                 for answer in range(len(pays[0])):
                     x, y = pay_of(pays, dice, answer)
@@ -215,14 +207,14 @@ class PayOfTest(RefusalCase):
 
 class PayByTest(RefusalCase):
     def test_the_example(self):
-        self.assertEqual(pay_by(EXAMPLE, ((1, 3), (2, 3)), HALVES), HALVES)
+        self.assertEqual(pay_by(EXAMPLE_PAYS, ((1, 3), (2, 3)), HALVES), HALVES)
 
     def test_unequal_odds(self):
-        self.assertEqual(pay_by(EXAMPLE, ((1, 3), (2, 3)), ((1, 4), (3, 4))), ((5, 12), (7, 12)))
-        self.assertEqual(pay_by(UNEVEN, ((1, 2), (1, 2)), ((1, 2), (1, 3), (1, 6))), ((9, 4), (35, 12)))
+        self.assertEqual(pay_by(EXAMPLE_PAYS, ((1, 3), (2, 3)), ((1, 4), (3, 4))), ((5, 12), (7, 12)))
+        self.assertEqual(pay_by(UNEVEN_PAYS, ((1, 2), (1, 2)), ((1, 2), (1, 3), (1, 6))), ((9, 4), (35, 12)))
 
     def test_the_sum_over_answers(self):
-        for pays in ALL:
+        for pays in NAMED_PAYS:
             for dice in shares_for(len(pays)):
                 for odds in shares_for(len(pays[0])):
                     x, y = 0, 0
@@ -232,7 +224,7 @@ class PayByTest(RefusalCase):
                     self.assertEqual(pay_by(pays, dice, odds), (pair(x), pair(y)))
 
     def test_also_the_sum_over_acts(self):
-        for pays in ALL:
+        for pays in NAMED_PAYS:
             for dice in shares_for(len(pays)):
                 for odds in shares_for(len(pays[0])):
                     total = ((0, 1), (0, 1))
@@ -242,25 +234,25 @@ class PayByTest(RefusalCase):
 
     def test_wrong_parameters(self):
         self.refused_place((2,), BadPays, pay_by, (((0, 0),), ((0, 0),), ()), HALVES, HALVES)
-        self.each_refused(BadDice, NO_HALVES, pay_by, [EXAMPLE, HALVES, HALVES], 1)
-        self.each_refused(BadOdds, NO_HALVES, pay_by, [EXAMPLE, HALVES, HALVES], 2)
+        self.each_refused(BadDice, NO_HALVES, pay_by, [EXAMPLE_PAYS, HALVES, HALVES], 1)
+        self.each_refused(BadOdds, NO_HALVES, pay_by, [EXAMPLE_PAYS, HALVES, HALVES], 2)
 
     def test_parameters_in_their_order(self):
         self.refused_place((), BadPays, pay_by, None, None, None)
-        self.refused_value(BadDice, None, pay_by, EXAMPLE, None, None)
-        self.refused_value(BadOdds, None, pay_by, EXAMPLE, HALVES, None)
+        self.refused_value(BadDice, None, pay_by, EXAMPLE_PAYS, None, None)
+        self.refused_value(BadOdds, None, pay_by, EXAMPLE_PAYS, HALVES, None)
 
 
 class GreatestGapTest(RefusalCase):
     def test_the_example(self):
-        self.assertEqual(greatest_gap(EXAMPLE), 2)
+        self.assertEqual(greatest_gap(EXAMPLE_PAYS), 2)
 
     def test_pays_that_are_all_alike(self):
         for acts, answers in product(range(1, 5), repeat=2):
             self.assertEqual(greatest_gap((((7, -7),) * answers,) * acts), 0)
 
     def test_of_any_two_pays(self):
-        for pays in ALL:
+        for pays in NAMED_PAYS:
             told = [Fraction(0)]
             for (x, y), (u, v) in product([pay for act in pays for pay in act], repeat=2):
                 told.append(Fraction((x - u) ** 2 + (y - v) ** 2))
@@ -279,7 +271,7 @@ class GreatestGapTest(RefusalCase):
         self.refused_place((0, 0), BadPays, greatest_gap, (([0, 0],),))
 
     def test_pays_of_dice_and_means_are_no_farther_apart(self):
-        for pays in ALL:
+        for pays in NAMED_PAYS:
             most = (greatest_gap(pays), 1)
             rounds = list(product(shares_for(len(pays)), range(len(pays[0]))))
             paid = [pay_of(pays, dice, answer) for dice, answer in rounds]

@@ -2,11 +2,11 @@
 
 import unittest
 from fractions import Fraction
-from itertools import combinations, permutations, product
+from itertools import product
 
 from tests.common import (
-    ALIKE, DIAGONAL, GAMES, LITTLE_GAMES, NOUGHTS, NO_GAMES, ONE_ACT, ONE_ANSWER, ONE_NUMBER, OTHER_KINDS, PENNIES,
-    STONES, RefusalCase, Strange, own, pair, whole_game,
+    ALIKE, DIAGONAL, GAMES, LITTLE_GAMES, NOUGHTS, NO_GAMES, NO_KERNELS, ONE_ACT, ONE_ANSWER, ONE_NUMBER, OTHER_KINDS,
+    PENNIES, STONES, RefusalCase, cofactor, own, own_kernels, pair, whole_game,
 )
 from withinshapes.errors import BadGame, BadParameter
 from withinshapes.squares import first_kernel, kernel_dice, kernels
@@ -15,45 +15,6 @@ BOTH = ((0, 1), (0, 1))
 GREAT = (((10 ** 40, 3), (-(10 ** 40), 7)), ((-(10 ** 41) - 1, 10 ** 20), (1, 10 ** 40)))
 
 NO_COUNTS = OTHER_KINDS + (0, 5, -1, 10 ** 40, (1, 1))
-
-# What is no kernel of a game of two acts and three answers.
-NO_KERNELS = OTHER_KINDS + (
-    0, ((), ()), ((0,),), ((0,), (0,), (0,)), ((0,), ()), ((), (0,)), ((0, 1), (0,)), ((0,), (0, 1)), ((2,), (0,)),
-    ((0,), (3,)), ((-1,), (0,)), ((0,), (-1,)), ((1, 0), (0, 1)), ((0, 1), (1, 0)), ((0, 0), (0, 1)),
-    ((0, 1), (2, 2)), ((0, 1, 2), (0, 1, 2)), ((0, 2), (0, 1)), ((0, 1), (1, 3)), [(0,), (0,)], ([0], (0,)),
-    ((0,), [0]), (0, 0), ((False,), (0,)), ((0,), (False,)), ((False, True), (0, 1)), ((0, 1), (0, True)),
-    ((0.0,), (0,)), (("0",), (0,)), ((None,), (0,)), (((0,),), (0,)), ((Strange(),), (0,)), ((0,), (Strange(),)),
-    (Strange(), Strange()), ({0}, {0}), (range(1), range(1)), ((0, 1), (0, Strange())), ((0, 1), (0, None)),
-)
-
-
-def own_kernels(acts, answers):
-    """All pairs of as many acts as answers, by size, then as Python compares."""
-    found = []
-    for some in product((False, True), repeat=acts):
-        for others in product((False, True), repeat=answers):
-            if sum(some) == sum(others) > 0:
-                found.append(tuple(tuple(at for at, here in enumerate(marks) if here) for marks in (some, others)))
-    return tuple(sorted(found, key=lambda kernel: (len(kernel[0]), kernel)))
-
-
-def own_determinant(square):
-    """The sum over all ways to take one number of each row and column, each with its sign."""
-    total = Fraction(0)
-    for places in permutations(range(len(square))):
-        crossed = sum(1 for one, other in combinations(places, 2) if one > other)
-        part = Fraction((-1) ** crossed)
-        for row, place in zip(square, places):
-            part *= row[place]
-        total += part
-    return total
-
-
-def cofactor(square, row, column):
-    """The determinant without a row and a column, with its sign."""
-    rest = [line[:column] + line[column + 1:] for at, line in enumerate(square) if at != row]
-    return (-1) ** (row + column) * own_determinant(rest)
-
 
 def own_weights(game, kernel):
     """The sum of cofactors for each act of the kernel."""

@@ -19,6 +19,11 @@ def is_fraction(value):
     return below >= 1 and gcd(above, below) == 1
 
 
+def is_part(value):
+    """Whether a value is a FRACTION from (0, 1) to (1, 1)."""
+    return is_fraction(value) and 0 <= value[0] <= value[1]
+
+
 def need_fraction(value):
     """The FRACTION itself."""
     if not is_fraction(value):

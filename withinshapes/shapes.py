@@ -5,7 +5,7 @@ from itertools import combinations
 from withinshapes.errors import BadShape, NoRow
 from withinshapes.fractions import least_of, least_terms
 from withinshapes.kinds import is_int, is_int_within, is_number_set, is_pair, is_row
-from withinshapes.points import need_point
+from withinshapes.points import need_pays, need_point
 
 MOST_LINES = 8
 MOST_IN_LINE = 1000
@@ -36,6 +36,12 @@ def need_shape(shape):
     if paper_of(shape) is not None:
         raise BadShape(())
     return shape
+
+
+def check_both(pays, shape):
+    """Refuses what are no pays or no shape."""
+    need_pays(pays)
+    need_shape(shape)
 
 
 def turned_by(one, other):

@@ -78,11 +78,16 @@ def determinant(square):
     return total
 
 
+def with_ones(square, one):
+    """For each row the square with a row of ones in its place."""
+    ones = [one] * len(square)
+    return [square[:place] + [ones] + square[place + 1:] for place in range(len(square))]
+
+
 def weights_of(square):
     """For each row the sum of its cofactors."""
     # By the row's cofactors a row of ones in its place comes to just their sum.
-    ones = [1] * len(square)
-    return [determinant(square[:place] + [ones] + square[place + 1:]) for place in range(len(square))]
+    return [determinant(changed) for changed in with_ones(square, 1)]
 
 
 def upright(weights):
@@ -123,12 +128,17 @@ def kernel_dice(game, kernel):
     return spread(weights, kernel[0], len(game))
 
 
+def meets_rows(rows, kernel):
+    """Whether a kernel meets a game of integers."""
+    weights = drawn_weights(rows, kernel)
+    return weights is not None and max(sums_over(rows, kernel[0], weights)) <= 0
+
+
 def first_kernel(game):
     """The first kernel that meets the game, None if none does."""
     check_game(game)
     rows, _ = whole_rows(game)
     for kernel in kernels_of(len(game), len(game[0])):
-        weights = drawn_weights(rows, kernel)
-        if weights is not None and max(sums_over(rows, kernel[0], weights)) <= 0:
+        if meets_rows(rows, kernel):
             return kernel
     return None
