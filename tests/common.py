@@ -358,6 +358,21 @@ def made_pays(many, seed, most=3):
     return found
 
 
+LONG = 1234567890123456789012345678901234567890
+
+
+def shares_for(many):
+    """Some tuples of so many parts of one."""
+    if many == 1:
+        return [((1, 1),)]
+    alone = [tuple((int(i == j), 1) for j in range(many)) for i in range(many)]
+    alike = [((1, many),) * many]
+    triangle = many * (many + 1) // 2
+    rising = tuple(Fraction(i + 1, triangle) for i in range(many))
+    long = ((1, LONG), (LONG - 1, LONG)) + ((0, 1),) * (many - 2)
+    return alone + alike + [tuple((part.numerator, part.denominator) for part in rising), long]
+
+
 LITTLE_LINES = tuple(
     (a, b, c) for a, b, c in product((-1, 0, 1), repeat=3) if (a, b) != (0, 0)
 )

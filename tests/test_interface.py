@@ -93,6 +93,36 @@ FUNCTIONS = {
         "kernel_polys": ["pays", "shape", "turn", "kernel"],
         "kernel_meets": ["pays", "shape", "turn", "kernel", "t"],
     },
+    "chains": {
+        "chain_of": ["pays", "shape", "turn"],
+        "is_chain": ["pays", "shape", "turn", "value"],
+        "is_gap": ["pays", "shape", "turn", "value"],
+    },
+    "leading": {
+        "is_led": ["pays", "shape"],
+        "lead": ["pays", "shape"],
+        "is_lead": ["pays", "shape", "value"],
+        "is_border_of": ["shape", "value"],
+        "wall_of": ["pays", "shape", "turn", "gap"],
+        "led_lines": ["pays", "shape"],
+        "led_turns": ["pays", "shape"],
+        "least_part": ["pays", "shape"],
+    },
+    "steering": {
+        "exact_dice": ["pays", "shape", "mean"],
+        "is_pulled": ["pays", "shape", "mean", "value"],
+        "rounded": ["dice", "rounds"],
+        "steered": ["pays", "shape", "answers"],
+        "steered_late": ["pays", "shape", "answers", "late"],
+        "guarantee": ["pays", "rounds", "late"],
+        "is_steering": ["pays", "shape", "answers", "value"],
+    },
+    "keeping": {
+        "paper_margin": ["pays", "paper"],
+        "kept_answer": ["pays", "paper", "dice"],
+        "kept_row": ["pays", "paper", "dices"],
+        "mean_by_odds": ["pays", "odds", "dices"],
+    },
 }
 
 # Files that the interface names without anything for users.
@@ -112,6 +142,12 @@ UPPER = (POLY, (1, 2), (1, 1))
 END = ((), (1, 1), (1, 1))
 TURN = (0, 1)
 TURNING = {"pays": PAYS, "shape": SHAPE, "turn": TURN}
+LEFT = ((1, 0, 0),)
+CHAIN = ((((), (0, 1), (0, 1)), END, KERNEL),)
+GAP = ((0, 1), HALVES)
+PAPER = ((1, 0, 0), HALVES)
+FIRST = ((1, 1), (0, 1))
+LAST = ((0, 1), (1, 1))
 
 CALLS = (
     ("fractions", "need_fraction", {"value": (1, 2)}, (1, 2)),
@@ -180,6 +216,30 @@ CALLS = (
     ("turns", "game_at", {**TURNING, "t": (1, 4)}, (((-1, 2), (1, 2)), ((1, 2), (-1, 2)))),
     ("turns", "kernel_polys", {**TURNING, "kernel": KERNEL}, (((-2, 4), (-2, 4)), ((), ()))),
     ("turns", "kernel_meets", {**TURNING, "kernel": KERNEL, "t": (1, 4)}, True),
+    ("chains", "chain_of", {"pays": PAYS, "shape": SHAPE, "turn": (0, 0)}, ("chain", CHAIN)),
+    ("chains", "is_chain", {"pays": PAYS, "shape": SHAPE, "turn": (0, 0), "value": CHAIN}, True),
+    ("chains", "is_gap", {"pays": PAYS, "shape": LEFT, "turn": (0, 0), "value": GAP}, True),
+    ("leading", "is_led", {"pays": PAYS, "shape": SHAPE}, True),
+    ("leading", "lead", {"pays": PAYS, "shape": SHAPE[:1]}, ("led", (CHAIN,))),
+    ("leading", "is_lead", {"pays": PAYS, "shape": SHAPE[:1], "value": ("led", (CHAIN,))}, True),
+    ("leading", "is_border_of", {"shape": SHAPE, "value": (1, 1, 1)}, True),
+    ("leading", "wall_of", {"pays": PAYS, "shape": LEFT, "turn": (0, 0), "gap": GAP}, PAPER),
+    ("leading", "led_lines", {"pays": PAYS, "shape": SHAPE}, (0, 1)),
+    ("leading", "led_turns", {"pays": PAYS, "shape": SHAPE}, ((0, 0), TURN, (1, 1))),
+    ("leading", "least_part", {"pays": PAYS, "shape": LEFT}, (0,)),
+    ("steering", "exact_dice", {"pays": PAYS, "shape": SHAPE, "mean": LAST}, HALVES),
+    ("steering", "is_pulled", {"pays": PAYS, "shape": SHAPE, "mean": LAST, "value": HALVES}, True),
+    ("steering", "rounded", {"dice": ((1, 3), (2, 3)), "rounds": 1}, ((1, 4), (3, 4))),
+    ("steering", "steered", {"pays": PAYS, "shape": SHAPE, "answers": (0, 0)},
+     ((FIRST, HALVES), (LAST, ((1, 4), (3, 4))))),
+    ("steering", "steered_late", {"pays": PAYS, "shape": SHAPE, "answers": (0, 0), "late": 1},
+     ((FIRST, FIRST), (LAST, LAST))),
+    ("steering", "guarantee", {"pays": PAYS, "rounds": 3, "late": 1}, (6, 1)),
+    ("steering", "is_steering", {"pays": PAYS, "shape": SHAPE, "answers": (0, 0), "value": (FIRST, HALVES)}, True),
+    ("keeping", "paper_margin", {"pays": PAYS, "paper": PAPER}, (1, 2)),
+    ("keeping", "kept_answer", {"pays": PAYS, "paper": PAPER, "dice": FIRST}, 1),
+    ("keeping", "kept_row", {"pays": PAYS, "paper": PAPER, "dices": (FIRST, LAST)}, ((1, 0), (FIRST, FIRST))),
+    ("keeping", "mean_by_odds", {"pays": PAYS, "odds": HALVES, "dices": (FIRST, LAST)}, HALVES),
 )
 
 # Calls with other kinds of results: nothing, the other word, the other truth.
@@ -203,6 +263,19 @@ MORE_CALLS = (
     ("polys", "roots_between", {"poly": POLY, "low": (1, 1), "high": (1, 1)}, 0),
     ("roots", "roots_of", {"poly": (5,)}, ()),
     ("turns", "kernel_meets", {**TURNING, "kernel": KERNEL, "t": (1, 2)}, False),
+    ("chains", "chain_of", {"pays": PAYS[:1], "shape": LEFT, "turn": (0, 0)}, ("gap", ((1, 2), LAST))),
+    ("chains", "is_chain", {"pays": PAYS, "shape": LEFT, "turn": (0, 0), "value": CHAIN}, False),
+    ("chains", "is_gap", {"pays": PAYS, "shape": SHAPE, "turn": (0, 0), "value": GAP}, False),
+    ("leading", "is_led", {"pays": PAYS, "shape": LEFT}, False),
+    ("leading", "lead", {"pays": PAYS[:1], "shape": LEFT}, ("out", ((1, 0, 0), LAST))),
+    ("leading", "is_lead", {"pays": PAYS, "shape": LEFT, "value": None}, False),
+    ("leading", "is_border_of", {"shape": SHAPE, "value": (1, 1, 0)}, False),
+    ("leading", "led_lines", {"pays": PAYS, "shape": LEFT}, ()),
+    ("leading", "led_turns", {"pays": PAYS, "shape": LEFT}, ()),
+    ("leading", "least_part", {"pays": PAYS, "shape": SHAPE}, None),
+    ("steering", "is_pulled", {"pays": PAYS, "shape": SHAPE, "mean": LAST, "value": FIRST}, False),
+    ("steering", "steered", {"pays": PAYS, "shape": SHAPE, "answers": ()}, ((), ())),
+    ("steering", "is_steering", {"pays": PAYS, "shape": SHAPE, "answers": (), "value": (FIRST,)}, False),
 )
 
 

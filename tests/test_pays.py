@@ -6,7 +6,7 @@ from itertools import product
 
 from tests.common import (
     EXAMPLE_PAYS, FULL_PAYS, NAMED_PAYS, NO_HALVES, NO_PAIRS, NO_ROWS, OTHER_KINDS, SINGLE_PAY, TALL_PAYS, UNEVEN_PAYS,
-    RefusalCase, pair,
+    LONG, RefusalCase, pair, shares_for,
 )
 from withinshapes.errors import BadDice, BadOdds, BadParameter, BadPays
 from withinshapes.fractions import less, minus, plus, times
@@ -15,19 +15,6 @@ from withinshapes.points import (
 )
 
 HALVES = ((1, 2), (1, 2))
-LONG = 1234567890123456789012345678901234567890
-
-
-def shares_for(many):
-    """Some tuples of so many parts of one."""
-    if many == 1:
-        return [((1, 1),)]
-    alone = [tuple((int(i == j), 1) for j in range(many)) for i in range(many)]
-    alike = [((1, many),) * many]
-    triangle = many * (many + 1) // 2
-    rising = tuple(Fraction(i + 1, triangle) for i in range(many))
-    long = ((1, LONG), (LONG - 1, LONG)) + ((0, 1),) * (many - 2)
-    return alone + alike + [tuple((part.numerator, part.denominator) for part in rising), long]
 
 
 def own_pay(pays, dice, answer):

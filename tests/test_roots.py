@@ -46,13 +46,44 @@ def own_roots(squares, plain):
 
 
 def own_between(one, other):
-    """The first fraction between the numbers with two squares."""
+    """The first fraction between the numbers with two squares, by denominators, then by numerators."""
     below = 2
     while True:
         for above in range(1, below):
             if gcd(above, below) == 1 and one < Fraction(above, below) ** 2 < other:
                 return (above, below)
         below += 1
+
+
+def own_between_near(one, other):
+    """The same by mediants from 0 and 1 on: what lies beyond is left behind, many steps at once."""
+    low, high = (0, 1), (1, 0)
+    while True:
+        for upward in (True, False):
+            far, near = (low, high) if upward else (high, low)
+
+            def place(many):
+                return (far[0] + many * near[0], far[1] + many * near[1])
+
+            def beyond(many):
+                above, below = place(many)
+                square = Fraction(above, below) ** 2 if below else None
+                return square is not None and (square <= one if upward else square >= other)
+
+            many = 1
+            while beyond(many):
+                many *= 2
+            least, most = many // 2, many
+            while most - least > 1:
+                middle = (least + most) // 2
+                least, most = (middle, most) if beyond(middle) else (least, middle)
+            if upward:
+                low = place(least)
+            else:
+                high = place(least)
+            found = (low[0] + high[0], low[1] + high[1])
+            if one < Fraction(*found) ** 2 < other:
+                return found
 
 
 def sign(number):
@@ -355,8 +386,33 @@ class BetweenTest(RefusalCase):
             for other in SQUARES[at + 1:]:
                 if other - one > Fraction(1, 1000):
                     told = own_between(one, other)
+                    self.assertEqual(told, own_between_near(one, other))
                     for first, second in product(SOME[one], SOME[other]):
                         self.assertEqual(between(first, second), told)
+
+    def test_numbers_side_by_side(self):
+        for at, one in enumerate(SQUARES):
+            for other in SQUARES[at + 1:at + 3]:
+                told = own_between_near(one, other)
+                for first, second in product(ALL[one][:9], ALL[other][:9]):
+                    self.assertEqual(between(first, second), told)
+
+    def test_other_roots_just_outside_of_the_stretch(self):
+        # Both POLYs have roots on either side that must not come in when a stretch is cut.
+        away = [Fraction(1, 2) + Fraction(part, 10 ** 4) for part in (-9, -7, -5, -3, 3, 5, 7, 9)]
+        poly = product_of(*[part_of(square) for square in away + [Fraction(1, 2)]])
+        other = Fraction(1, 2) + Fraction(1, 10 ** 9)
+        more = product_of(*[part_of(square) for square in away + [other]])
+        low, high = (7069, 10000), (7073, 10000)
+        told = own_between_near(Fraction(1, 2), other)
+        for first in ((poly, low, high), SKEW_ROOT, ((-1, 0, 2), (7, 10), (5, 7)), ((-1, 0, 2), (1, 2), high)):
+            for second in ((more, low, high), (part_of(other), (0, 1), (1, 1)), (part_of(other), low, (1, 1))):
+                self.assertEqual(between(first, second), told)
+                self.assertEqual(compared(first, second), -1)
+                self.refused_value(BadParameter, first, between, second, first)
+        told = own_between_near(Fraction(0), other)
+        self.assertEqual(between(NOUGHT_ROOT, (more, low, high)), told)
+        self.assertEqual(between((poly, low, high), UNIT_ROOT), own_between_near(Fraction(1, 2), Fraction(1)))
 
     def test_by_hand(self):
         self.assertEqual(between(NOUGHT_ROOT, UNIT_ROOT), (1, 2))

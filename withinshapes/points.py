@@ -119,6 +119,16 @@ def pay_by(pays, dice, odds):
     return weighed_points([pay_at(pays, dice, answer) for answer in answers], odds)
 
 
+def means_of(pays, dices, answers):
+    """Behind each round the mean of the pays so far."""
+    total = ORIGIN
+    means = []
+    for dice, answer in zip(dices, answers):
+        total = point_plus(total, pay_at(pays, dice, answer))
+        means.append(point_times(total, (1, len(means) + 1)))
+    return tuple(means)
+
+
 def squared_gap(one, other):
     """The squared distance of two pairs of integers."""
     return (one[0] - other[0]) ** 2 + (one[1] - other[1]) ** 2

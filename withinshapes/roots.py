@@ -56,10 +56,12 @@ def roots_of(poly):
 def side_of(root, t):
     """-1, 0 or 1: as a ROOT's number is less than a FRACTION, the same or greater."""
     poly, low, high = root
-    if poly == NO_POLY or not less(low, t) or not less(t, high):
-        if low == high == t:
-            return 0
-        return -1 if less(low, t) else 1
+    if low == high == t:
+        return 0
+    if not less(low, t):
+        return 1
+    if not less(t, high):
+        return -1
     told = sign_of(poly, t)
     if told == 0:
         return 0
@@ -70,7 +72,7 @@ def side_of(root, t):
 def cut(root, t):
     """A ROOT of the same number, its stretch cut at a FRACTION, if this lies in it."""
     poly, low, high = root
-    if poly == NO_POLY or not less(low, t) or not less(t, high):
+    if not less(low, t) or not less(t, high):
         return root
     side = side_of(root, t)
     if side == 0:
@@ -90,7 +92,7 @@ def halved(root):
 
 
 def have_same(one, other):
-    """Whether two ROOTs with POLYs other than () have the same number."""
+    """Whether two ROOTs have the same number, each told by a POLY other than ()."""
     low = other[1] if less(one[1], other[1]) else one[1]
     high = least_of((one[2], other[2]))
     if not less(low, high):
@@ -102,7 +104,7 @@ def have_same(one, other):
 
 def order_of(one, other):
     """-1, 0 or 1, as compared tells, of ROOTs that are known to be right."""
-    if one[0] != NO_POLY and other[0] != NO_POLY and have_same(one, other):
+    if have_same(one, other):
         return 0
     while one[0] != NO_POLY and other[0] != NO_POLY:
         if not less(other[1], one[2]):

@@ -29,7 +29,7 @@ def root_stretches(row):
     waiting = [(NOUGHT, UNIT)]
     while waiting:
         low, high = waiting.pop()
-        many = 1 if low == high else count_between(row, low, high)
+        many = count_between(row, low, high)
         if low == high or many == 1 and sign_of(row[0], low) != 0 and sign_of(row[0], high) != 0:
             found.append((low, high))
         elif many > 0:
