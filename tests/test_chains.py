@@ -2,6 +2,7 @@
 
 import unittest
 from fractions import Fraction
+from functools import cmp_to_key
 from math import gcd
 
 from tests.common import (
@@ -14,7 +15,7 @@ from withinshapes.errors import BadParameter, BadPays, BadShape
 from withinshapes.games import met, worth
 from withinshapes.polys import poly_at, roots_between
 from withinshapes.roots import between, compared, halved, need_root, roots_of
-from withinshapes.squares import first_kernel
+from withinshapes.squares import first_kernel, kernels
 from withinshapes.turns import game_at, kernel_meets, kernel_polys
 
 CASES = turn_cases(NAMED_PAYS + tuple(made_pays(32, 11)) + tuple(made_pays(16, 12, 8)))
@@ -45,6 +46,15 @@ def parted(start, end):
         if 1000 * (Fraction(*start[2]) - Fraction(*start[1])) < width > 1000 * (Fraction(*end[2]) - Fraction(*end[1])):
             return Fraction(*start[2]), Fraction(*end[1])
     raise AssertionError("no stretch")
+
+
+def cell_places(case):
+    """A FRACTION between each two neighbouring roots of all kernels' polynomials, and the ends of all."""
+    polys = {poly for kernel in kernels(len(case[0]), len(case[0][0])) for polys in kernel_polys(*case, kernel)
+             for poly in polys if len(poly) > 1}
+    roots = [NOUGHT_ROOT, UNIT_ROOT] + [root for poly in sorted(polys) for root in roots_of(poly)]
+    roots = sorted(roots, key=cmp_to_key(compared))
+    return [(0, 1), (1, 1)] + [between(one, other) for one, other in zip(roots, roots[1:]) if compared(one, other) < 0]
 
 
 class ChainOfTest(RefusalCase):
@@ -104,6 +114,18 @@ class ChainOfTest(RefusalCase):
             for t in FRACTIONS:
                 if worth(game_at(*case, pair(t)))[0][0] > 0:
                     self.assertEqual(word, "gap")
+
+    def test_beside_the_worth_between_neighbouring_roots_of_all_polynomials(self):
+        words = {"chain": 0, "gap": 0}
+        for case in CASES[::4]:
+            pays, _, turn = case
+            if len(pays) + len(pays[0]) < 6 and turn[0] != turn[1]:
+                cells = cell_places(case)
+                met_at_all = all(worth(game_at(*case, t))[0][0] <= 0 for t in cells)
+                word = "chain" if met_at_all else "gap"
+                words[word] += 1
+                self.assertEqual(chain_of(*case)[0], word)
+        self.assertGreater(min(words.values()), 10)
 
     def test_the_example(self):
         word, chain = chain_of(*EXAMPLE)

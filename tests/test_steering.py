@@ -283,7 +283,7 @@ class SteeredTest(RefusalCase):
                         self.assertLessEqual(Fraction(*squared_from(shape, mean)), most)
 
     def test_against_an_answer_that_looks_at_the_dice(self):
-        for pays, shape in LED[::5]:
+        for pays, shape in LED[::9]:
             answers = ()
             for rounds in range(1, 25):
                 # The answer whose mean would be farthest from the shape.
@@ -373,7 +373,7 @@ class IsSteeringTest(RefusalCase):
 
     def test_beside_the_distances(self):
         found = {True: 0, False: 0}
-        for pays, shape in CASES[::2]:
+        for pays, shape in CASES[::5]:
             for dice in shares_for(len(pays)):
                 for answers in rows_for(pays, 9):
                     total = [Fraction(0), Fraction(0)]
@@ -386,7 +386,7 @@ class IsSteeringTest(RefusalCase):
                         right = right and far <= Fraction(5 * greatest_gap(pays), rounds)
                     found[right] += 1
                     self.assertIs(is_steering(pays, shape, answers, (dice,) * 9), right)
-        self.assertGreater(min(found.values()), 200)
+        self.assertGreater(min(found.values()), 100)
 
     def test_just_so(self):
         # G is 2: behind one round at most 10, behind five rounds at most 2, behind ten rounds at most 1.

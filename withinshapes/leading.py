@@ -108,7 +108,7 @@ def led_turns(pays, shape):
 def least_part(pays, shape):
     """The first SET of one or two lines that are kept out as a shape by themselves; None if the shape is led."""
     check_both(pays, shape)
-    for size in (1, 2):
+    for size in range(1, 3):
         for lot in combinations(range(len(shape)), size):
             if not leads(pays, tuple([shape[number] for number in lot])):
                 return lot
