@@ -123,6 +123,33 @@ FUNCTIONS = {
         "kept_row": ["pays", "paper", "dices"],
         "mean_by_odds": ["pays", "odds", "dices"],
     },
+    "against": {
+        "dice_against": ["pays", "shape", "odds"],
+        "is_against": ["pays", "shape", "odds", "value"],
+    },
+    "heights": {
+        "height": ["pays", "a", "b"],
+        "is_height": ["pays", "a", "b", "value"],
+        "heights": ["pays"],
+    },
+    "widening": {
+        "least_widening": ["pays", "shape"],
+        "is_least_widening": ["pays", "shape", "value"],
+        "least_push": ["pays", "shape", "number"],
+        "is_least_push": ["pays", "shape", "number", "value"],
+    },
+    "made": {
+        "mapped": ["pays", "matrix"],
+        "mapped_shape": ["shape", "matrix"],
+        "moved": ["pays", "shift"],
+        "moved_shape": ["shape", "shift"],
+        "either_acts": ["pays", "other"],
+        "either_answers": ["pays", "other"],
+        "some_acts": ["pays", "lot"],
+        "some_answers": ["pays", "lot"],
+        "both_shapes": ["shape", "other"],
+        "some_lines": ["shape", "lot"],
+    },
 }
 
 # Files that the interface names without anything for users.
@@ -144,10 +171,13 @@ TURN = (0, 1)
 TURNING = {"pays": PAYS, "shape": SHAPE, "turn": TURN}
 LEFT = ((1, 0, 0),)
 CHAIN = ((((), (0, 1), (0, 1)), END, KERNEL),)
+SINGLE_CHAIN = ((((), (0, 1), (0, 1)), END, ((0,), (0,))),)
 GAP = ((0, 1), HALVES)
 PAPER = ((1, 0, 0), HALVES)
 FIRST = ((1, 1), (0, 1))
 LAST = ((0, 1), (1, 1))
+MATRIX = ((0, 1), (-2, 0))
+OUT = ((2, 0, 0), HALVES)
 
 CALLS = (
     ("fractions", "need_fraction", {"value": (1, 2)}, (1, 2)),
@@ -240,6 +270,25 @@ CALLS = (
     ("keeping", "kept_answer", {"pays": PAYS, "paper": PAPER, "dice": FIRST}, 1),
     ("keeping", "kept_row", {"pays": PAYS, "paper": PAPER, "dices": (FIRST, LAST)}, ((1, 0), (FIRST, FIRST))),
     ("keeping", "mean_by_odds", {"pays": PAYS, "odds": HALVES, "dices": (FIRST, LAST)}, HALVES),
+    ("against", "dice_against", {"pays": PAYS, "shape": LEFT, "odds": HALVES}, ("wall", (1, 0, 0))),
+    ("against", "is_against", {"pays": PAYS, "shape": SHAPE, "odds": FIRST, "value": ("dice", HALVES)}, True),
+    ("heights", "height", {"pays": PAYS, "a": 2, "b": 0}, ((1, 1), HALVES, HALVES)),
+    ("heights", "is_height", {"pays": PAYS, "a": 0, "b": 2, "value": ((1, 1), HALVES, HALVES)}, True),
+    ("heights", "heights", {"pays": PAYS}, ((1, 2), (1, 2), (-1, 2), (-1, 2))),
+    ("widening", "least_widening", {"pays": PAYS, "shape": ((2, 0, 0),)}, (1, (CHAIN,), OUT)),
+    ("widening", "is_least_widening", {"pays": PAYS, "shape": ((2, 0, 0),), "value": (1, (CHAIN,), OUT)}, True),
+    ("widening", "least_push", {"pays": PAYS, "shape": ((2, 0, 9),), "number": 0}, (1, (CHAIN,), OUT)),
+    ("widening", "is_least_push", {"pays": PAYS, "shape": ((2, 0, 9),), "number": 0, "value": (1, (CHAIN,), OUT)}, True),
+    ("made", "mapped", {"pays": PAYS[:1], "matrix": MATRIX}, (((1, 0), (0, -2)),)),
+    ("made", "mapped_shape", {"shape": SHAPE, "matrix": MATRIX}, ((0, -1, 1), (2, 0, 1))),
+    ("made", "moved", {"pays": PAYS, "shift": (3, -4)}, (((3, -3), (4, -4)), ((4, -4), (3, -3)))),
+    ("made", "moved_shape", {"shape": SHAPE, "shift": (3, -4)}, ((2, 0, 7), (0, 2, -7))),
+    ("made", "either_acts", {"pays": PAYS[:1], "other": PAYS[1:]}, PAYS),
+    ("made", "either_answers", {"pays": (((0, 1),),), "other": (((1, 0),),)}, PAYS[:1]),
+    ("made", "some_acts", {"pays": PAYS, "lot": (1,)}, PAYS[1:]),
+    ("made", "some_answers", {"pays": PAYS, "lot": (1,)}, (((1, 0),), ((0, 1),))),
+    ("made", "both_shapes", {"shape": SHAPE, "other": LEFT}, SHAPE + LEFT),
+    ("made", "some_lines", {"shape": SHAPE, "lot": (0,)}, SHAPE[:1]),
 )
 
 # Calls with other kinds of results: nothing, the other word, the other truth.
@@ -276,6 +325,14 @@ MORE_CALLS = (
     ("steering", "is_pulled", {"pays": PAYS, "shape": SHAPE, "mean": LAST, "value": FIRST}, False),
     ("steering", "steered", {"pays": PAYS, "shape": SHAPE, "answers": ()}, ((), ())),
     ("steering", "is_steering", {"pays": PAYS, "shape": SHAPE, "answers": (), "value": (FIRST,)}, False),
+    ("against", "dice_against", {"pays": PAYS[:1], "shape": LEFT, "odds": FIRST}, ("dice", ((1, 1),))),
+    ("against", "is_against", {"pays": PAYS, "shape": LEFT, "odds": HALVES, "value": ("dice", HALVES)}, False),
+    ("heights", "is_height", {"pays": PAYS, "a": 0, "b": 1, "value": ((1, 1), HALVES, HALVES)}, False),
+    ("widening", "least_widening", {"pays": PAYS, "shape": ((2, 0, 1),)}, (0, (CHAIN,), None)),
+    ("widening", "is_least_widening", {"pays": PAYS, "shape": ((2, 0, 0),), "value": (0, (CHAIN,), None)}, False),
+    ("widening", "least_push", {"pays": (((0, 0),),), "shape": ((1, 0, 9), (-1, 0, 0)), "number": 0},
+     (0, (SINGLE_CHAIN, SINGLE_CHAIN), ())),
+    ("widening", "is_least_push", {"pays": PAYS, "shape": ((2, 0, 9),), "number": 0, "value": None}, False),
 )
 
 

@@ -68,6 +68,11 @@ def are_chains(pays, lines, value):
     return True
 
 
+def is_out(pays, lines, value):
+    """Whether a value is (WALL, ODDS) that keep a shape out, pays and shape known to be right."""
+    return is_paper(pays, value) and lets_all(value[0], lines)
+
+
 def is_lead(pays, shape, value):
     """Whether a value is ("led", CHAINS) or ("out", (WALL, ODDS)) for the pays and the shape."""
     check_both(pays, shape)
@@ -76,7 +81,7 @@ def is_lead(pays, shape, value):
     word, paper = value
     if word == "led":
         return are_chains(pays, shape, paper)
-    return word == "out" and is_paper(pays, paper) and lets_all(paper[0], shape)
+    return word == "out" and is_out(pays, shape, paper)
 
 
 def is_border_of(shape, value):
