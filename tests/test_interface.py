@@ -150,10 +150,37 @@ FUNCTIONS = {
         "both_shapes": ["shape", "other"],
         "some_lines": ["shape", "lot"],
     },
+    "several": {
+        "need_several": ["several"],
+        "all_led": ["several", "shape"],
+        "is_all_led": ["several", "shape", "value"],
+        "by_turns": ["several", "shape", "rounds"],
+        "regrets": ["wishes"],
+        "regret_shape": [],
+        "while_shape": ["least", "most"],
+    },
+    "texts": {
+        "need_chain": ["chain"],
+        "need_paper": ["paper"],
+        "pays_text": ["pays"],
+        "read_pays": ["text"],
+        "shape_text": ["shape"],
+        "read_shape": ["text"],
+        "chain_text": ["chain"],
+        "read_chain": ["text"],
+        "paper_text": ["paper"],
+        "read_paper": ["text"],
+    },
+    "sessions": {
+        "begun": ["pays", "shape"],
+        "need_state": ["state"],
+        "session_step": ["state", "deed"],
+        "played": ["pays", "shape", "deeds"],
+    },
 }
 
 # Files that the interface names without anything for users.
-OTHER_FILES = ("errors", "search")
+OTHER_FILES = ("errors", "search", "wording")
 
 PAYS = (((0, 1), (1, 0)), ((1, 0), (0, 1)))
 HALVES = ((1, 2), (1, 2))
@@ -178,6 +205,11 @@ FIRST = ((1, 1), (0, 1))
 LAST = ((0, 1), (1, 1))
 MATRIX = ((0, 1), (-2, 0))
 OUT = ((2, 0, 0), HALVES)
+SEVERAL = (PAYS, (((0, 1),), ((1, 0),)))
+PAYS_TEXT = "pays {\n  act { 0 1 1 0 }\n  act { 1 0 0 1 }\n}"
+SHAPE_TEXT = "shape {\n  line 2 0 1\n  line 0 2 1\n}"
+CHAIN_TEXT = "chain {\n  part at 0 at 1 { 0 1 } { 0 1 }\n}"
+STATE = (PAYS, SHAPE, (0,), ((SHAPE, ()),))
 
 CALLS = (
     ("fractions", "need_fraction", {"value": (1, 2)}, (1, 2)),
@@ -289,6 +321,28 @@ CALLS = (
     ("made", "some_answers", {"pays": PAYS, "lot": (1,)}, (((1, 0),), ((0, 1),))),
     ("made", "both_shapes", {"shape": SHAPE, "other": LEFT}, SHAPE + LEFT),
     ("made", "some_lines", {"shape": SHAPE, "lot": (0,)}, SHAPE[:1]),
+    ("several", "need_several", {"several": SEVERAL}, SEVERAL),
+    ("several", "all_led", {"several": (PAYS,), "shape": SHAPE[:1]}, ("led", (("led", (CHAIN,)),))),
+    ("several", "is_all_led", {"several": (PAYS,), "shape": LEFT, "value": ("out", 0, PAPER)}, True),
+    ("several", "by_turns", {"several": SEVERAL, "shape": SHAPE, "rounds": ((0, 0), (1, 0))},
+     ((FIRST, LAST), (LAST, HALVES))),
+    ("several", "regrets", {"wishes": ((1, 0), (0, 1))}, (((0, -1), (0, 1)), ((1, 0), (-1, 0)))),
+    ("several", "regret_shape", {}, ((1, 0, 0), (0, 1, 0))),
+    ("several", "while_shape", {"least": 3, "most": 4}, ((-1, 0, -3), (0, 1, 4))),
+    ("texts", "need_chain", {"chain": CHAIN}, CHAIN),
+    ("texts", "need_paper", {"paper": ("out", PAPER)}, ("out", PAPER)),
+    ("texts", "pays_text", {"pays": PAYS}, PAYS_TEXT),
+    ("texts", "read_pays", {"text": PAYS_TEXT}, PAYS),
+    ("texts", "shape_text", {"shape": SHAPE}, SHAPE_TEXT),
+    ("texts", "read_shape", {"text": SHAPE_TEXT}, SHAPE),
+    ("texts", "chain_text", {"chain": CHAIN}, CHAIN_TEXT),
+    ("texts", "read_chain", {"text": CHAIN_TEXT}, CHAIN),
+    ("texts", "paper_text", {"paper": ("out", PAPER)}, "out 1 0 0 { 1/2 1/2 }"),
+    ("texts", "read_paper", {"text": "out 1 0 0 { 1/2 1/2 }"}, ("out", PAPER)),
+    ("sessions", "begun", {"pays": PAYS, "shape": SHAPE}, (PAYS, SHAPE, (), ())),
+    ("sessions", "need_state", {"state": STATE}, STATE),
+    ("sessions", "session_step", {"state": (PAYS, SHAPE, (), ()), "deed": ("answer", 0)}, (STATE, None)),
+    ("sessions", "played", {"pays": PAYS, "shape": SHAPE, "deeds": (("answer", 0), ("mean",))}, (STATE, (None, LAST))),
 )
 
 # Calls with other kinds of results: nothing, the other word, the other truth.
@@ -333,6 +387,16 @@ MORE_CALLS = (
     ("widening", "least_push", {"pays": (((0, 0),),), "shape": ((1, 0, 9), (-1, 0, 0)), "number": 0},
      (0, (SINGLE_CHAIN, SINGLE_CHAIN), ())),
     ("widening", "is_least_push", {"pays": PAYS, "shape": ((2, 0, 9),), "number": 0, "value": None}, False),
+    ("several", "all_led", {"several": (PAYS, PAYS[:1]), "shape": SHAPE}, ("out", 1, ((2, 0, 1), LAST))),
+    ("several", "is_all_led", {"several": (PAYS,), "shape": LEFT, "value": ("out", 1, PAPER)}, False),
+    ("several", "by_turns", {"several": SEVERAL, "shape": SHAPE, "rounds": ()}, ((), ())),
+    ("texts", "chain_text", {"chain": ()}, "chain {\n}"),
+    ("texts", "read_paper", {"text": "led { chain { } }"}, ("led", ((),))),
+    ("sessions", "session_step", {"state": STATE, "deed": ("ask",)}, (STATE, True)),
+    ("sessions", "session_step", {"state": (PAYS[:1], SHAPE, (0, 0), ()), "deed": ("mean",)},
+     ((PAYS[:1], SHAPE, (0, 0), ()), "none")),
+    ("sessions", "session_step", {"state": STATE, "deed": ("undo",)}, ((PAYS, SHAPE, (), ()), None)),
+    ("sessions", "played", {"pays": PAYS, "shape": SHAPE, "deeds": ()}, ((PAYS, SHAPE, (), ()), ())),
 )
 
 

@@ -2,7 +2,7 @@
 
 from withinshapes.errors import BadDice, BadOdds, BadParameter, BadPays, BadPoint
 from withinshapes.fractions import are_shares, is_fraction, minus, need_fraction, plus, times, weighed
-from withinshapes.kinds import is_int_within, is_pair, is_tuple, wrong_place
+from withinshapes.kinds import is_int_within, is_pair, is_row, is_tuple, wrong_place
 
 ORIGIN = ((0, 1), (0, 1))
 MOST_PAID = 100
@@ -84,6 +84,12 @@ def need_odds(pays, odds):
     if not are_shares(odds, len(pays[0])):
         raise BadOdds(odds)
     return odds
+
+
+def are_answers(pays, value, most):
+    """Whether a value is a tuple of at most so many numbers of answers of the pays."""
+    last = len(pays[0]) - 1
+    return is_row(value, 0, most) and all([is_int_within(answer, 0, last) for answer in value])
 
 
 def whole_point(pay):

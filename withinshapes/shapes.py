@@ -38,6 +38,13 @@ def need_shape(shape):
     return shape
 
 
+def is_shape(value):
+    """Whether a value is a shape."""
+    if not is_row(value, 1, MOST_LINES) or not all([is_line(line) for line in value]):
+        return False
+    return paper_of(value) is None
+
+
 def check_both(pays, shape):
     """Refuses what are no pays or no shape."""
     need_pays(pays)

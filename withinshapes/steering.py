@@ -6,7 +6,7 @@ from withinshapes.fractions import NOUGHT, UNIT, are_shares, least_terms, less, 
 from withinshapes.games import meets, met
 from withinshapes.kinds import MOST_ACTS, is_int_within, is_row, is_tuple
 from withinshapes.points import (
-    ORIGIN, greatest_gap, means_of, need_pays, need_point, pay_at, point_plus, point_times, squared,
+    ORIGIN, are_answers, greatest_gap, means_of, need_pays, need_point, pay_at, point_plus, point_times, squared,
 )
 from withinshapes.shapes import check_both
 from withinshapes.squares import first_kernel, kernel_dice
@@ -97,17 +97,16 @@ def rounded(dice, rounds):
 def check_answers(pays, shape, answers):
     """Refuses what are no pays, no shape or no tuple of at most 200 numbers of answers."""
     check_both(pays, shape)
-    last = len(pays[0]) - 1
-    if not is_row(answers, 0, MOST_ANSWERED) or not all([is_int_within(answer, 0, last) for answer in answers]):
+    if not are_answers(pays, answers, MOST_ANSWERED):
         raise BadParameter(answers)
 
 
-def steer(pays, lines, answers, late):
-    """(DICES, MEANS) by the told rule, of what is known to be right."""
+def steer(played, lines, late):
+    """(DICES, MEANS) by the told rule for pairs of a round's pays and answer, of what is known to be right."""
     total = ORIGIN
     dices = []
     means = []
-    for rounds, answer in enumerate(answers):
+    for rounds, (pays, answer) in enumerate(played):
         dice = first_alone(len(pays))
         if rounds > late:
             dice = made_small(dice_for(pays, lines, means[rounds - late - 1]), rounds)
@@ -120,7 +119,7 @@ def steer(pays, lines, answers, late):
 def steered(pays, shape, answers):
     """(DICES, MEANS): the DICE of each round by the mean so far, and the mean behind it."""
     check_answers(pays, shape, answers)
-    return steer(pays, shape, answers, 0)
+    return steer([(pays, answer) for answer in answers], shape, 0)
 
 
 def steered_late(pays, shape, answers, late):
@@ -128,7 +127,7 @@ def steered_late(pays, shape, answers, late):
     check_answers(pays, shape, answers)
     if not is_int_within(late, 0, MOST_LATE):
         raise BadParameter(late)
-    return steer(pays, shape, answers, late)
+    return steer([(pays, answer) for answer in answers], shape, late)
 
 
 def guarantee(pays, rounds, late):
