@@ -151,7 +151,8 @@ class IsAllLedTest(RefusalCase):
         for value in (leads[:1], leads + leads[:1], leads[::-1], (leads[0], leads[0]), (), leads[0], list(leads),
                       (leads[0], None), (leads[0], ("led", ())), (leads[0][1], leads[1][1]),
                       (leads[0], ("out", leads[1][1])), (leads[0], ("Led", leads[1][1])), (leads[0], list(leads[1])),
-                      (leads[0], leads[1] + (None,)), (leads[0], leads[1][:1])):
+                      (leads[0], leads[1] + (None,)), (leads[0], leads[1][:1]), (leads[0], (Strange(), leads[1][1])),
+                      (leads[0], ("led", Strange())), (Strange(), Strange())):
             self.left(("led", value))
         self.left(("out", leads))
         self.left(("led", 0, leads))

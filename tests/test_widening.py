@@ -354,6 +354,16 @@ class IsLeastPushTest(RefusalCase):
         self.taken((7, chains, ((1, 0, 6), ((1, 1),))), alone(7, 0), self.STRIP)
         self.left((7, chains, ()), alone(7, 0), self.STRIP)
 
+    def test_lines_without_a_common_point_are_not_led(self):
+        # Each line is led by an act, and both have a chain; but X at most 4 and at least 5 is no shape.
+        pays = (((0, 0),), ((9, 0),))
+        end, chains, out = least_push(pays, self.STRIP, 0)
+        self.assertEqual((end, out), (5, ()))
+        apart = [lead(pays, (line,))[1][0] for line in ((1, 0, 4), (-1, 0, -5))]
+        self.left((4, tuple(apart), ()), pays, self.STRIP)
+        self.left((4, chains, ()), pays, self.STRIP)
+        self.taken((5, chains, ()), pays, self.STRIP)
+
     def test_a_thousand_below(self):
         end, chains, out = least_push(alone(-100, 3), ((11, 0, 5),), 0)
         case = (alone(-100, 3), ((11, 0, 5),))

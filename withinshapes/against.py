@@ -45,9 +45,9 @@ def shared_out(weights, acts, many):
 
 
 def upright_weights(weights):
-    """Weights of one sign as FRACTIONs from nought on; None if both signs are there, or all are nought."""
+    """Weights of one sign as FRACTIONs from nought on; None if both signs are there."""
     signs = [above for above, _ in weights]
-    if min(signs) < 0 < max(signs) or min(signs) == max(signs) == 0:
+    if min(signs) < 0 < max(signs):
         return None
     return [(abs(above), below) for above, below in weights]
 
